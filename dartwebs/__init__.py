@@ -1,0 +1,1 @@
+"""Webs of arrows turned at their nodes, and numbers that always divide."""

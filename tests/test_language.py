@@ -1,0 +1,75 @@
+"""Rules of form that hold for every file of the package."""
+
+import ast
+import pathlib
+import unittest
+
+PACKAGE = pathlib.Path(__file__).resolve().parent.parent / "dartwebs"
+
+INTERFACE = {
+    "errors.py": ("WebError", "BadWeb", "InvalidText", "BadTimes"),
+    "webs.py": ("is_web", "is_tree", "arrows", "web_of", "turned", "turned_all", "renamed", "parts"),
+    "rowtexts.py": ("row_of", "printed"),
+}
+
+
+class Language(unittest.TestCase):
+    def setUp(self):
+        self.texts = {path: path.read_text(encoding="utf-8") for path in sorted(PACKAGE.rglob("*.py"))}
+        self.trees = {path: ast.parse(text) for path, text in self.texts.items()}
+
+    def test_only_program_files(self):
+        for path in PACKAGE.rglob("*"):
+            if "__pycache__" not in path.parts:
+                self.assertEqual(path.suffix, ".py", path)
+
+    def test_sizes_and_signs(self):
+        for path, text in self.texts.items():
+            lines = text.split("\n")
+            self.assertLessEqual(len(lines), 399, path)
+            for at, line in enumerate(lines, 1):
+                self.assertLessEqual(len(line), 120, (path, at))
+                self.assertTrue(all(" " <= sign <= "~" for sign in line), (path, at))
+
+    def test_sizes_of_functions(self):
+        for path, tree in self.trees.items():
+            for node in ast.walk(tree):
+                if isinstance(node, ast.FunctionDef):
+                    self.assertLessEqual(node.end_lineno - node.lineno + 1, 40, (path, node.name))
+
+    def test_imports_from_the_file_that_defines(self):
+        for path, tree in self.trees.items():
+            for node in ast.walk(tree):
+                self.assertNotIsInstance(node, ast.Import, path)
+                if isinstance(node, ast.ImportFrom):
+                    self.assertEqual(node.level, 0, path)
+                    package, module = node.module.split(".")
+                    self.assertEqual(package, "dartwebs", path)
+                    bound = self.bound_in(PACKAGE / f"{module}.py")
+                    for alias in node.names:
+                        self.assertIn(alias.name, bound, path)
+
+    def bound_in(self, path):
+        bound = []
+        for node in self.trees[path].body:
+            if isinstance(node, (ast.FunctionDef, ast.ClassDef)):
+                bound.append(node.name)
+            elif isinstance(node, ast.Assign):
+                bound.extend(target.id for target in node.targets)
+        return bound
+
+    def test_interface_is_defined_in_its_file(self):
+        for name, wanted in INTERFACE.items():
+            bound = self.bound_in(PACKAGE / name)
+            for word in wanted:
+                self.assertIn(word, bound, name)
+
+    def test_no_state_at_module_level(self):
+        allowed = (ast.Import, ast.ImportFrom, ast.FunctionDef, ast.ClassDef, ast.Assign, ast.Expr)
+        for path, tree in self.trees.items():
+            for node in tree.body:
+                self.assertIsInstance(node, allowed, path)
+                if isinstance(node, ast.Expr):
+                    self.assertIsInstance(node.value, ast.Constant, path)
+                elif isinstance(node, ast.Assign):
+                    ast.literal_eval(node.value)
