@@ -21,6 +21,27 @@ EXAMPLES = {
 >>> [row_of(3, text), printed(text)]
 [(0, 1, 0, 1, 0, 1, 2, 1, 0, 2, 2, 1, 0, 1), 'a = 0 1; a^2 [a, 2] (a 2)~ 1']
 ''',
+    "sums": '''
+>>> from dartwebs.sums import below, over, plus, sum_text, times
+>>> one = plus(2, (((1, 0), 1),), (((0, 1), 1),))
+>>> [one, times(2, one, one), over(2, times(2, one, one), one) == one, sum_text(2, times(2, one, one))]
+[(((0, 1), 1), ((1, 0), 1)), (((0, 2), 1), ((1, 1), 2), ((2, 0), 1)), True, 'x1^2 + 2*x0*x1 + x0^2']
+>>> [below(2, (((-1, 0), 1), ((-1, 1), 1))), sum_text(2, (((-1, 0), 1), ((0, 0), -3))), sum_text(1, ())]
+[(1, 0), 'x0^-1 + -3', '0']
+''',
+    "shares": '''
+>>> from dartwebs.shares import value
+>>> value(2, (((-1, 0), 1), ((-1, 1), 1)), ((1, 2), (3, 1)))
+(8, 1)
+''',
+    "lots": '''
+>>> from dartwebs.lots import first_lot, lot_behind, numbers, values, wholes
+>>> web = ((0, 1), (-1, 0))
+>>> [numbers(web, (0,)), lot_behind(web, first_lot(2), 0) == numbers(web, (0,)), numbers(web, (0, 1, 0, 1, 0)) == first_lot(2)[::-1]]
+[((((-1, 0), 1), ((-1, 1), 1)), (((0, 1), 1),)), True, True]
+>>> [wholes(web, (0, 1)), values(web, (0, 1), ((1, 2), (3, 1))), wholes(((0, 2), (-2, 0)), (0, 1, 0, 1))]
+[(2, 3), ((8, 1), (3, 1)), (13, 34)]
+''',
 }
 
 

@@ -1,6 +1,7 @@
 """Rules of form that hold for every file of the package."""
 
 import ast
+import builtins
 import pathlib
 import unittest
 
@@ -10,7 +11,18 @@ INTERFACE = {
     "errors.py": ("WebError", "BadWeb", "InvalidText", "BadTimes"),
     "webs.py": ("is_web", "is_tree", "arrows", "web_of", "turned", "turned_all", "renamed", "parts"),
     "rowtexts.py": ("row_of", "printed"),
+    "sums.py": ("is_sum", "plus", "times", "over", "sum_text", "below"),
+    "shares.py": ("value",),
+    "lots.py": ("first_lot", "lot_behind", "numbers", "values", "wholes"),
 }
+
+LIBRARY = {
+    "heapq": ("heappush", "heappop", "heapify", "heapreplace", "heappushpop"),
+    "math": ("gcd", "lcm", "isqrt", "comb", "perm", "factorial"),
+}
+
+# A doctest keeps what it showed last as a builtin called _.
+BUILTINS = [name for name in dir(builtins) if name != "_"]
 
 
 class Language(unittest.TestCase):
@@ -43,11 +55,14 @@ class Language(unittest.TestCase):
                 self.assertNotIsInstance(node, ast.Import, path)
                 if isinstance(node, ast.ImportFrom):
                     self.assertEqual(node.level, 0, path)
-                    package, module = node.module.split(".")
-                    self.assertEqual(package, "dartwebs", path)
-                    bound = self.bound_in(PACKAGE / f"{module}.py")
+                    bound = LIBRARY.get(node.module)
+                    if bound is None:
+                        package, module = node.module.split(".")
+                        self.assertEqual(package, "dartwebs", path)
+                        bound = self.bound_in(PACKAGE / f"{module}.py")
                     for alias in node.names:
                         self.assertIn(alias.name, bound, path)
+                        self.assertIsNone(alias.asname, path)
 
     def bound_in(self, path):
         bound = []
@@ -73,3 +88,37 @@ class Language(unittest.TestCase):
                     self.assertIsInstance(node.value, ast.Constant, path)
                 elif isinstance(node, ast.Assign):
                     ast.literal_eval(node.value)
+
+    def test_no_name_of_a_builtin_is_bound(self):
+        for path, tree in self.trees.items():
+            for node in ast.walk(tree):
+                name = getattr(node, "arg", None)
+                if isinstance(node, ast.Name) and isinstance(node.ctx, ast.Store):
+                    name = node.id
+                elif isinstance(node, (ast.FunctionDef, ast.ClassDef)):
+                    name = node.name
+                if name is not None and not isinstance(node, ast.keyword):
+                    self.assertFalse(name in BUILTINS, (path, name))
+
+    def test_exponents_are_small_literals(self):
+        for path, tree in self.trees.items():
+            for node in ast.walk(tree):
+                if isinstance(node, ast.BinOp) and isinstance(node.op, ast.Pow):
+                    self.assertIsInstance(node.right, ast.Constant, (path, node.lineno))
+                    self.assertIn(node.right.value, range(65), (path, node.lineno))
+
+    def test_no_floats_and_no_percent_in_strings(self):
+        for path, tree in self.trees.items():
+            for node in ast.walk(tree):
+                self.assertNotIsInstance(node, ast.Div, path)
+                if isinstance(node, ast.Constant):
+                    self.assertNotIsInstance(node.value, float, path)
+                    self.assertFalse(isinstance(node.value, str) and "%" in node.value, (path, node.lineno))
+
+    def test_names_of_the_library_are_only_called(self):
+        for path, tree in self.trees.items():
+            called = [node.func for node in ast.walk(tree) if isinstance(node, ast.Call)]
+            names = [name for words in LIBRARY.values() for name in words]
+            for node in ast.walk(tree):
+                if isinstance(node, ast.Name) and node.id in names:
+                    self.assertIn(node, called, (path, node.lineno))
