@@ -1,9 +1,10 @@
 """Lots: a number at each node of a web, and what a turn makes of it."""
 
 from dartwebs.checks import check_count, check_node, check_row, check_shares
+from dartwebs.division import divided, quotient_of
 from dartwebs.errors import BadLot, TooGreat
 from dartwebs.shares import lowest
-from dartwebs.sums import added, divided, is_sum, multiplied, quotient_of
+from dartwebs.sums import added, is_sum, multiplied
 from dartwebs.webs import check_web, turned
 
 
