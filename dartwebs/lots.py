@@ -5,7 +5,7 @@ from dartwebs.division import divided, quotient_of
 from dartwebs.errors import BadLot, TooGreat
 from dartwebs.shares import lowest
 from dartwebs.sums import added, is_sum, multiplied
-from dartwebs.webs import check_web, turned
+from dartwebs.webs import check_web, web_behind
 
 
 def first_lot(n):
@@ -23,6 +23,12 @@ def lot_behind(web, lot, x):
     return _exchanged(lot, x, divided(n, _sum_of_products(web, lot, x), lot[x]))
 
 
+def next_lot(web, lot, x):
+    """Give the lot behind a turn at x, for a lot that comes of the first one."""
+    # From the first lot on every division comes out: where too many pairs come, no rest is left.
+    return _exchanged(lot, x, quotient_of(len(web), _sum_of_products(web, lot, x), lot[x]))
+
+
 def _check_lot(n, lot):
     """Raise BadLot for what is no tuple of n sums, none of them nought."""
     if not isinstance(lot, tuple) or len(lot) != n:
@@ -38,10 +44,14 @@ def _exchanged(lot, x, number):
 
 def _sum_of_products(web, lot, x):
     """Give the product of the numbers that point to x plus that of those to which x points."""
+    one = (((0,) * len(web), 1),)
+    return sum_of_products(web, lot, x, one, one)
+
+
+def sum_of_products(web, lot, x, there, back):
+    """Give the first sum times the numbers that point to x plus the second times those to which x points."""
     n = len(web)
     one = (((0,) * n, 1),)
-    there = one
-    back = one
     for y in range(n):
         power = one
         for _ in range(abs(web[y][x])):
@@ -60,9 +70,8 @@ def numbers(web, row):
     check_row(n, row)
     lot = first_lot(n)
     for x in row:
-        # From the first lot on every division comes out, so that none has to be tried.
-        lot = _exchanged(lot, x, quotient_of(n, _sum_of_products(web, lot, x), lot[x]))
-        web = turned(web, x)
+        lot = next_lot(web, lot, x)
+        web = web_behind(web, x)
     return lot
 
 
@@ -84,26 +93,26 @@ def wholes(web, row):
 def _shares_behind(web, row, shares):
     """Give the shares behind the row of turns."""
     for x in row:
-        shares = _exchanged(shares, x, _share_behind(web, shares, x))
-        web = turned(web, x)
+        shares = _exchanged(shares, x, share_behind(web, shares, x))
+        web = web_behind(web, x)
     return shares
 
 
-def _share_behind(web, shares, x):
+def share_behind(web, shares, x):
     """Give the share at x behind a turn there."""
     there = (1, 1)
     back = (1, 1)
     for y in range(len(web)):
         for _ in range(abs(web[y][x])):
             if web[y][x] > 0:
-                there = _bounded(there[0] * shares[y][0], there[1] * shares[y][1])
+                there = _bounded_share(there[0] * shares[y][0], there[1] * shares[y][1])
             else:
-                back = _bounded(back[0] * shares[y][0], back[1] * shares[y][1])
+                back = _bounded_share(back[0] * shares[y][0], back[1] * shares[y][1])
     top = there[0] * back[1] + back[0] * there[1]
-    return _bounded(top * shares[x][1], there[1] * back[1] * shares[x][0])
+    return _bounded_share(top * shares[x][1], there[1] * back[1] * shares[x][0])
 
 
-def _bounded(top, bottom):
+def _bounded_share(top, bottom):
     """Give the share in lowest terms, which must not be beyond its bound."""
     share = lowest(top, bottom)
     if max(share) > (10 ** 60) ** 5:

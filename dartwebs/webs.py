@@ -67,7 +67,7 @@ def turned(web, x):
     """Give the web behind a turn at the node x."""
     check_web(web)
     check_node(len(web), x)
-    return _behind(web, x)
+    return web_behind(web, x)
 
 
 def turned_all(web, row):
@@ -75,11 +75,11 @@ def turned_all(web, row):
     check_web(web)
     check_row(len(web), row)
     for x in row:
-        web = _behind(web, x)
+        web = web_behind(web, x)
     return web
 
 
-def _behind(web, x):
+def web_behind(web, x):
     """Give the web behind a turn at x, for a web and a node."""
     n = len(web)
     table = tuple([tuple([_many_behind(web, x, y, z) for z in range(n)]) for y in range(n)])

@@ -42,6 +42,27 @@ EXAMPLES = {
 >>> [wholes(web, (0, 1)), values(web, (0, 1), ((1, 2), (3, 1))), wholes(((0, 2), (-2, 0)), (0, 1, 0, 1))]
 [(2, 3), ((8, 1), (3, 1)), (13, 34)]
 ''',
+    "frames": '''
+>>> from dartwebs.frames import by_frames, degrees, frame, green_row, greens, inners
+>>> web = ((0, 1), (-1, 0))
+>>> [frame(web, (1,)), greens(web, (1,)), green_row(web), degrees(web, (0,)), inners(web, (0,))[0]]
+[(((0, -1), (1, 0)), ((1, 0), (0, -1))), (0,), (1, 0), ((-1, 0), (1, 1)), (((0, 0), 1), ((1, 0), 1))]
+>>> by_frames(web, (0,))
+((((-1, 0), 1), ((-1, 1), 1)), (((0, 1), 1),))
+''',
+    "classing": '''
+>>> from dartwebs.classing import class_of, is_finite, judged, kind, least_named, paper
+>>> web, two = ((0, 1, 0), (-1, 0, 1), (0, -1, 0)), ((0, 2), (-2, 0))
+>>> [len(class_of(web)), paper(web), paper(two), is_finite(two), kind(web), least_named(two)]
+[4, ('closed', 4), ('two', ()), False, 'A3', ((0, -2), (2, 0))]
+>>> [judged(two, ("two", (0, 1))), judged(web, ("closed", 5)), kind(((0, 0), (0, 0)))]
+[True, False, 'A1 A1']
+''',
+    "roots": '''
+>>> from dartwebs.roots import lots_count, numbers_count, roots
+>>> [roots(((0, 1), (-1, 0))), numbers_count(((0, 1), (-1, 0))), lots_count(((0, 1), (-1, 0)))]
+[((0, 1), (1, 0), (1, 1)), 5, 5]
+''',
 }
 
 

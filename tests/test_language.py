@@ -14,6 +14,9 @@ INTERFACE = {
     "sums.py": ("is_sum", "plus", "times", "over", "sum_text", "below"),
     "shares.py": ("value",),
     "lots.py": ("first_lot", "lot_behind", "numbers", "values", "wholes"),
+    "frames.py": ("frame", "greens", "green_row", "degrees", "inners", "by_frames"),
+    "classing.py": ("least_named", "is_finite", "class_of", "paper", "judged", "kind"),
+    "roots.py": ("roots", "numbers_count", "lots_count"),
 }
 
 LIBRARY = {
