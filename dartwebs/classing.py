@@ -133,7 +133,8 @@ def _class_of(web):
     waiting = [_least(web)]
     seen = {waiting[0]: True}
     while waiting:
-        for behind in _webs_behind(waiting.pop()):
+        one = waiting.pop()
+        for behind in _webs_behind(one):
             if behind not in seen:
                 seen[behind] = True
                 waiting.append(behind)

@@ -63,6 +63,39 @@ EXAMPLES = {
 >>> [roots(((0, 1), (-1, 0))), numbers_count(((0, 1), (-1, 0))), lots_count(((0, 1), (-1, 0)))]
 [((0, 1), (1, 0), (1, 1)), 5, 5]
 ''',
+    "joined": '''
+>>> from dartwebs.joined import all_lots, all_numbers, round_of
+>>> [len(all_lots(((0, 1), (-1, 0)))), len(all_numbers(((0, 1), (-1, 0)))), round_of(((0, 1), (-1, 0)), 0, 1)]
+[5, 5, 5]
+>>> [round_of(((0, 0), (0, 0)), 0, 1), round_of(((0, 2), (-2, 0)), 0, 1), all_lots(((0,),))]
+[4, None, (((((-1,), 2),),), ((((1,), 1),),))]
+''',
+    "polygons": '''
+>>> from dartwebs.polygons import flipped, lengths, ways, web_of_cutting
+>>> cutting = ((0, 2), (0, 3))
+>>> [web_of_cutting(cutting), flipped(cutting, 0), ways(cutting, 1, 4), ways(cutting, 3, 3), lengths(cutting, ((1, 1), (1, 1)))[(1, 4)]]
+[((0, -1), (1, 0)), ((1, 3), (0, 3)), 3, 0, (3, 1)]
+''',
+    "desks": '''
+>>> from dartwebs.desks import Desk, desk_of
+>>> desk = Desk(((0, 1), (-1, 0)))
+>>> done = [desk.turn(1), desk.turn(0)]
+>>> [desk.web(), desk.row(), desk.greens(), desk.is_back(), desk.text()]
+[((0, 1), (-1, 0)), (1, 0), (), False, 'nodes 2\\narrows 0>1\\nturns 1 0\\n']
+>>> back = desk.undo()
+>>> [desk_of(desk.text()).lot() == desk.lot(), desk.lot()]
+[True, ((((1, 0), 1),), (((0, -1), 1), ((1, -1), 1)))]
+''',
+    "beats": '''
+>>> from dartwebs.beats import beat, beats, is_steady, sides, steady_row
+>>> from dartwebs.lots import first_lot
+>>> web = ((0, 1, 0), (-1, 0, 1), (0, -1, 0))
+>>> [sides(web), beat(web), beat(((0, 1), (-1, 0))), beats(web, 12) == first_lot(3)]
+[((0, 2), (1,)), 6, 5, True]
+>>> four = ((0, 1, -2, 1), (-1, 0, 3, -2), (2, -3, 0, 1), (-1, 2, -1, 0))
+>>> [is_steady(four), [top for top, bottom in steady_row(four, ((1, 1),) * 4, 11)]]
+[True, [1, 1, 1, 1, 2, 3, 7, 23, 59, 314, 1529]]
+''',
 }
 
 

@@ -17,12 +17,31 @@ INTERFACE = {
     "frames.py": ("frame", "greens", "green_row", "degrees", "inners", "by_frames"),
     "classing.py": ("least_named", "is_finite", "class_of", "paper", "judged", "kind"),
     "roots.py": ("roots", "numbers_count", "lots_count"),
+    "joined.py": ("all_lots", "all_numbers", "round_of"),
+    "polygons.py": ("web_of_cutting", "flipped", "lengths", "ways"),
+    "desks.py": ("Desk", "desk_of"),
+    "beats.py": ("sides", "beats", "beat", "is_steady", "steady_row"),
 }
 
 LIBRARY = {
     "heapq": ("heappush", "heappop", "heapify", "heapreplace", "heappushpop"),
     "math": ("gcd", "lcm", "isqrt", "comb", "perm", "factorial"),
+    "itertools": ("product", "combinations", "permutations"),
 }
+
+# The builtins that the package may call or name.
+ALLOWED = (
+    "len", "range", "enumerate", "zip", "min", "max", "sum", "abs", "sorted", "reversed", "int", "str", "bool", "list",
+    "tuple", "dict", "set", "isinstance", "ord", "repr", "any", "all", "divmod", "ValueError",
+)
+
+# The methods of builtin values that the package may call.
+METHODS = (
+    "append", "clear", "copy", "count", "endswith", "extend", "find", "get", "index", "insert", "isalnum", "isalpha",
+    "isdigit", "islower", "isspace", "isupper", "items", "join", "keys", "ljust", "lower", "lstrip", "partition", "pop",
+    "remove", "replace", "reverse", "rfind", "rjust", "rpartition", "rsplit", "rstrip", "setdefault", "split",
+    "splitlines", "startswith", "strip", "update", "upper", "values", "zfill", "bit_length", "add", "discard", "isascii",
+)
 
 # A doctest keeps what it showed last as a builtin called _.
 BUILTINS = [name for name in dir(builtins) if name != "_"]
@@ -125,3 +144,61 @@ class Language(unittest.TestCase):
             for node in ast.walk(tree):
                 if isinstance(node, ast.Name) and node.id in names:
                     self.assertIn(node, called, (path, node.lineno))
+
+    def test_builtins_that_are_allowed(self):
+        for path, tree in self.trees.items():
+            for node in ast.walk(tree):
+                if isinstance(node, ast.Name) and node.id in BUILTINS:
+                    self.assertIn(node.id, ALLOWED, (path, node.lineno))
+
+    def test_methods_that_are_allowed(self):
+        own = [node.name for tree in self.trees.values() for part in tree.body if isinstance(part, ast.ClassDef)
+               for node in part.body if isinstance(node, ast.FunctionDef)]
+        for path, tree in self.trees.items():
+            for node in ast.walk(tree):
+                if isinstance(node, ast.Call) and isinstance(node.func, ast.Attribute):
+                    self.assertIn(node.func.attr, METHODS + tuple(own), (path, node.lineno))
+
+    def test_statements_that_are_not_allowed(self):
+        wrong = (ast.Global, ast.AsyncFunctionDef, ast.Lambda, ast.Yield, ast.With, ast.AnnAssign)
+        for path, tree in self.trees.items():
+            for node in ast.walk(tree):
+                self.assertNotIsInstance(node, wrong, (path, getattr(node, "lineno", 0)))
+                if isinstance(node, (ast.FunctionDef, ast.ClassDef)):
+                    self.assertEqual(node.decorator_list, [], (path, node.lineno))
+
+    def test_sets_are_never_gone_through(self):
+        for path, tree in self.trees.items():
+            for node in ast.walk(tree):
+                if isinstance(node, (ast.For, ast.comprehension)):
+                    self.assertNotIsInstance(node.iter, (ast.Set, ast.SetComp), path)
+                    called = node.iter.func if isinstance(node.iter, ast.Call) else None
+                    self.assertFalse(isinstance(called, ast.Name) and called.id == "set", path)
+
+    def test_no_name_has_the_name_of_an_import_or_a_class(self):
+        for path, tree in self.trees.items():
+            taken = [alias.name for node in tree.body if isinstance(node, ast.ImportFrom) for alias in node.names]
+            taken += [node.name for node in tree.body if isinstance(node, ast.ClassDef)]
+            for node in ast.walk(tree):
+                name = getattr(node, "arg", None) if isinstance(node, ast.arg) else None
+                if isinstance(node, ast.Name) and isinstance(node.ctx, ast.Store):
+                    name = node.id
+                self.assertFalse(name in taken, (path, name))
+
+    def test_no_two_files_import_each_other(self):
+        lower = {}
+        for path, tree in self.trees.items():
+            lower[path.stem] = [node.module.split(".")[1] for node in tree.body
+                                if isinstance(node, ast.ImportFrom) and node.module.startswith("dartwebs.")]
+        while lower:
+            free = [name for name, needed in lower.items() if not any(other in lower for other in needed)]
+            self.assertNotEqual(free, [], lower)
+            lower = {name: needed for name, needed in lower.items() if name not in free}
+
+    def test_methods_of_the_interface_stand_in_their_class(self):
+        methods = ("turn", "undo", "web", "row", "lot", "greens", "is_back", "text")
+        tree = self.trees[PACKAGE / "desks.py"]
+        desk = [node for node in tree.body if isinstance(node, ast.ClassDef) and node.name == "Desk"]
+        defined = [node.name for node in desk[0].body if isinstance(node, ast.FunctionDef)]
+        for name in methods:
+            self.assertIn(name, defined)
