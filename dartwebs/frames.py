@@ -13,7 +13,7 @@ def frame(web, row):
     """Give the pair of the web and the frame behind the row of turns."""
     check_web(web)
     check_row(len(web), row)
-    return _frame_behind(web, row)
+    return _frames_along(web, row)[-1]
 
 
 def greens(web, row):
@@ -25,7 +25,7 @@ def greens(web, row):
 
 def greens_behind(web, row):
     """Give the nodes that are green behind the row of turns, for a web and a row of its nodes."""
-    _, table = _frame_behind(web, row)
+    _, table = _frames_along(web, row)[-1]
     return _greens_of(table)
 
 
@@ -34,12 +34,13 @@ def _first_table(n):
     return tuple([tuple([1 if x == i else 0 for x in range(n)]) for i in range(n)])
 
 
-def _frame_behind(web, row):
-    """Give the pair of the web and the frame behind the row of turns."""
-    table = _first_table(len(web))
+def _frames_along(web, row):
+    """Give the list of the pairs of the web and the frame ahead of each turn, and behind the last one."""
+    found = [(web, _first_table(len(web)))]
     for x in row:
-        web, table = _framed(web, table, x)
-    return web, table
+        web, table = found[-1]
+        found.append(_framed(web, table, x))
+    return found
 
 
 def _framed(web, table, x):
@@ -105,15 +106,12 @@ def degrees(web, row):
     return _degrees_behind(web, row)
 
 
-def _degrees_behind(web, row):
-    """Give the table of the degrees behind the row of turns."""
-    first = web
-    n = len(web)
-    table = _first_table(n)
-    told = _first_table(n)
-    for x in row:
-        told = _small(tuple([_degrees_line(web, table, told[i], first[i], x) for i in range(n)]))
-        web, table = _framed(web, table, x)
+def _degrees_behind(first, row):
+    """Give the table of the degrees behind the row of turns, for the first web."""
+    told = _first_table(len(first))
+    for x, (web, table) in zip(row, _frames_along(first, row)):
+        lines = [_degrees_line(web, table, line, first_line, x) for line, first_line in zip(told, first)]
+        told = _small(tuple(lines))
     return told
 
 
@@ -132,18 +130,17 @@ def inners(web, row):
     return _inners_behind(web, row)
 
 
-def _inners_behind(web, row):
-    """Give the tuple of the inner sums behind the row of turns."""
-    n = len(web)
-    table = _first_table(n)
+def _inners_behind(first, row):
+    """Give the tuple of the inner sums behind the row of turns, for the first web."""
+    n = len(first)
     told = ((((0,) * n, 1),),) * n
-    for x in row:
+    # A frame that is too great anywhere along the row is told ahead of the sums.
+    for x, (web, table) in zip(row, _frames_along(first, row)):
         column = [line[x] for line in table]
         there = ((tuple([max(0, power) for power in column]), 1),)
         back = ((tuple([max(0, -power) for power in column]), 1),)
         inner = quotient_of(n, sum_of_products(web, told, x, there, back), told[x])
         told = told[:x] + (inner,) + told[x + 1:]
-        web, table = _framed(web, table, x)
     return told
 
 

@@ -26,7 +26,8 @@ def _check_cutting(cutting):
         raise BadCutting()
     if not all([_is_line(_corners_of(cutting), line) for line in cutting]):
         raise BadCutting()
-    for one, other in combinations(list(cutting), 2):
+    lines = list(cutting)
+    for one, other in combinations(lines, 2):
         if one == other or _cross(one, other):
             raise BadCutting()
 

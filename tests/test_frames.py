@@ -114,14 +114,14 @@ def plain_inner(web, table, inner, x):
 
 
 def plain_inners(web, row):
+    if plain_frame(web, row) == GREAT:
+        return GREAT
     n = len(web)
     table, inner = identity(n), [names(*(0,) * n)] * n
     try:
         for x in row:
             inner[x] = plain_inner(web, table, inner, x)
             web, table = plain_turn(web, table, x)
-            if is_beyond(web, table):
-                return GREAT
     except StopIteration as stop:
         return stop.value
     return ("value", tuple(inner))
@@ -451,22 +451,29 @@ class Inners(unittest.TestCase):
     def test_too_great_and_too_long(self):
         self.assertEqual(self.check(web_of(3, ((0, 1, 40), (1, 2, 26))), (1,)), GREAT)
         self.assertEqual(self.check(pair(32), (0, 1)), GREAT)
-        self.assertEqual(self.check(pair(1000), (0, 1)), LONG)
         many = 0
         while outcome(inners, pair(2), ((0, 1) * 50)[:many + 1])[0] == "value":
             many += 1
         self.assertEqual(self.check(pair(2), ((0, 1) * 50)[:many + 1]), LONG)
         self.assertEqual(outcome(inners, pair(2), (0, 1) * 100), LONG)
 
-    def test_turn_by_turn_the_sum_ahead_of_the_frame(self):
+    def test_the_frame_of_the_whole_row_is_ahead_of_the_sums(self):
         # At one turn the sum is too long and the frame too great.
         self.assertEqual(outcome(frame, pair(501), (0, 1)), GREAT)
-        self.assertEqual(self.check(pair(501), (0, 1)), LONG)
-        # The web of an earlier turn is ahead of the sum of a later one, and the other way round.
-        web = web_of(5, ((0, 1, 40), (1, 2, 40), (3, 4, 501)))
-        self.assertEqual(self.check(web, (1, 3, 4)), GREAT)
-        self.assertEqual(self.check(web, (3, 4, 1)), LONG)
-        self.assertEqual(self.check(web, (3, 1, 4)), GREAT)
+        self.assertEqual(self.check(pair(501), (0, 1)), GREAT)
+        self.assertEqual(self.check(pair(1000), (0, 1)), GREAT)
+        # The sum of an earlier turn is too long, and the other way round.
+        web = web_of(5, ((0, 1, 40), (1, 2, 40), (3, 4, 2)))
+        row = (3, 4) * 20
+        self.assertEqual(outcome(inners, web, row), LONG)
+        self.assertEqual(outcome(inners, web, row + (1,)), GREAT)
+        self.assertEqual(outcome(inners, web, (1,) + row), GREAT)
+        row = (0, 1) * 4
+        many = [outcome(inners, pair(3), row[:at])[0] for at in range(9)].index("error")
+        self.assertLess(many, 8)
+        self.assertEqual(self.check(pair(3), row[:many]), LONG)
+        self.assertEqual(outcome(frame, pair(3), row), GREAT)
+        self.assertEqual(self.check(pair(3), row), GREAT)
 
     def test_long_rows(self):
         with in_good_time():
@@ -511,14 +518,28 @@ class ByFrames(unittest.TestCase):
 
     def test_order_of_errors(self):
         # The frame and the degrees of the whole row come first, then the inner sums.
-        self.assertEqual(outcome(inners, pair(501), (0, 1)), LONG)
         self.assertEqual(self.check(pair(501), (0, 1)), GREAT)
         web = web_of(5, ((0, 1, 40), (1, 2, 40), (3, 4, 2)))
         row = (3, 4) * 20
         self.assertEqual(outcome(inners, web, row), LONG)
         self.assertEqual(outcome(by_frames, web, row), LONG)
         self.assertEqual(outcome(by_frames, web, row + (1,)), GREAT)
-        self.assertEqual(outcome(inners, web, row + (1,)), LONG)
+        self.check_degrees_alone_ahead()
+
+    def check_degrees_alone_ahead(self):
+        """Degrees that are too great are told ahead of sums that are too long, though the frame is small."""
+        chance = random.Random(1310)
+        found = 0
+        for _ in range(20000):
+            web = some_web(chance, chance.choice((3, 4)), 9, 0.9)
+            row = some_row(chance, len(web), 4)
+            if outcome(degrees, web, row) == GREAT and outcome(frame, web, row)[0] == "value":
+                if outcome(inners, web, row) == LONG:
+                    found += 1
+                    self.assertEqual(outcome(by_frames, web, row), GREAT)
+                    if found == 3:
+                        break
+        self.assertGreater(found, 0)
 
     def test_too_great_sums(self):
         # Degrees and inner sums are small, the numbers aren't.
