@@ -3,14 +3,15 @@
 import itertools
 import random
 import unittest
+from unittest import mock
 
-from dartwebs.errors import NotEven
+from dartwebs.errors import NotEven, TooLong
 from dartwebs.lots import lot_behind
 from dartwebs.sums import over, plus, times
 
 from tests.test_sums import GREAT, LONG, UNEVEN, binomial, in_one_name, names, plain_over, power_of_name, product_of
 from tests.test_sums import row_of_ones, some_sum
-from tests.values import in_good_time, outcome, outcome_unchanged
+from tests.values import in_good_time, outcome, outcome_unchanged, told
 
 # Numbers with which earlier trials of a division were done.
 OLD_MODULUS = 577215664901532860606512103
@@ -214,3 +215,67 @@ class LongQuotients(unittest.TestCase):
                 self.assertEqual(found[-1], plain_over(one, other), (n, one, other))
         for wanted in (LONG, UNEVEN):
             self.assertGreater(found.count(wanted), 5)
+
+
+def some_factor(chance, n):
+    """A sum of few pairs, often one along a product of names."""
+    if chance.random() < 0.5:
+        return some_sum(chance, n, chance.randint(1, 3), 1, 2)
+    step = [chance.randint(-1, 1) for _ in range(n)]
+    step[0] = step[0] or 1
+    table = {}
+    for (power,), many in some_sum(chance, 1, chance.randint(2, 3), 2, 2):
+        table[tuple(power * less for less in step)] = many
+    return tuple(sorted(table.items()))
+
+
+class EachPartAlone(unittest.TestCase):
+    """What tells a rest is taken apart: the proof without the points, and the points without the proof."""
+
+    def cases(self, seed, many):
+        chance = random.Random(seed)
+        for _ in range(many):
+            n = chance.choice((1, 1, 2, 2, 3, 4))
+            factors = [some_factor(chance, n) for _ in range(4)] + [names(*(0,) * n, many=chance.choice((2, 3, -6)))]
+            one = product_of(n, *chance.choices(factors, k=chance.randint(1, 4)))
+            other = product_of(n, *chance.choices(factors, k=chance.randint(1, 3)))
+            yield n, one, other
+
+    def check(self, seed, many):
+        kinds = []
+        with mock.patch("dartwebs.division.MOST_PAIRS", 2):
+            for n, one, other in self.cases(seed, many):
+                wanted = plain_over(one, other)
+                if wanted[0] == "value" and len(wanted[1]) > 2:
+                    wanted = told(TooLong, most=2)
+                self.assertEqual(outcome(over, n, one, other), wanted, (n, one, other))
+                kinds.append(wanted[1].__name__ if wanted[0] == "error" else "value")
+        for kind in set(kinds):
+            self.assertGreater(kinds.count(kind), many // 50, kind)
+        self.assertEqual(len(set(kinds)), 3)
+
+    def test_both(self):
+        self.check(701, 1500)
+
+    def test_the_proof_alone(self):
+        with mock.patch("dartwebs.division._leaves_rest_at_points", lambda *_: False):
+            self.check(702, 3000)
+
+    def test_the_proof_alone_for_long_quotients(self):
+        with mock.patch("dartwebs.division._leaves_rest_at_points", lambda *_: False):
+            tests = unittest.TestSuite()
+            for name in ("test_one_name", "test_common_divisors_of_coefficients", "test_great_coefficients",
+                         "test_factors_along_products_of_names", "test_far_beyond_what_can_be_written",
+                         "test_factors_with_more_names_beside_those_along_products"):
+                tests.addTest(LongQuotients(name))
+            found = unittest.TestResult()
+            tests.run(found)
+        self.assertEqual([found.testsRun, found.failures, found.errors], [6, [], []])
+
+    def test_points_tell_no_rest_that_is_not_there(self):
+        # Without a proof an answer may be too long where there is none, but never the other way round.
+        with mock.patch("dartwebs.division.Division.comes_out", lambda _: True):
+            with mock.patch("dartwebs.division.MOST_PAIRS", 2):
+                for n, one, other in self.cases(703, 1000):
+                    if plain_over(one, other)[0] == "value":
+                        self.assertNotEqual(outcome(over, n, one, other), UNEVEN)
