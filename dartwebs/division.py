@@ -4,6 +4,7 @@ from heapq import heappop, heappush
 from math import gcd
 
 from dartwebs.errors import NotEven, TooGreat, TooLong
+from dartwebs.points import leaves_rest_at_points
 
 MOST_PAIRS = 500
 MOST_EXPONENT = 1000
@@ -12,11 +13,6 @@ MOST_EXPONENT = 1000
 # room for twice the bound and back again, as it comes in products and quotients of two sums.
 BASE = 16384
 HALF = 8192
-
-# The product of the primes below 30: what is 1 more than a multiple of it has none of them.
-SMALL_PRIMES = 6469693230
-MIXED_BY = 271828182845904523
-MIXED_BELOW = 2305843009213693951
 
 
 def packed(exponents):
@@ -138,7 +134,7 @@ def _comes_out(n, one, other):
     other. As to the numbers that divide, the common divisors of the coefficients tell it, by
     the lemma of Gauss.
     """
-    if _leaves_rest_at_points(n, one, other) or _common(one) % _common(other) != 0:
+    if leaves_rest_at_points(n, one, other) or _common(one) % _common(other) != 0:
         return False
     other = _without_common(other)
     for direction in _directions(other):
@@ -208,9 +204,10 @@ def _without_factor(n, told, factor):
 def _common_line(lines):
     """Give the greatest common divisor of sums of one name, from the power 0 on.
 
-    It's read off the greatest common divisor of their values at one power of two: if what is
-    read divides all of them, it's the greatest, as the power of two is so much beyond their
-    roots that a further factor in common would have a value there that shows.
+    It's read off the greatest common divisor of their values at one power of two, beyond eight
+    times all coefficients of a line. If what is read divides all of them, it's the greatest: the
+    value of a further factor in common would divide all coefficients read, none beyond half the
+    power; but its roots are roots of that line, too near to 0 for a value as small as this.
     """
     bits = min([max([abs(many) for _, many in line]) for line in lines]).bit_length() + 3
     while True:
@@ -277,88 +274,3 @@ def _parted(told, basis):
                 place = tuple([power - many * less for power, less in zip(place, step)])
         found.setdefault(place, []).append((exponents, coefficient))
     return list(found.values())
-
-
-def _leaves_rest_at_points(n, one, other):
-    """Tell whether a rest is left where all names but one are points modulo a number.
-
-    There a rest is seen quickly, however long the division would go on. That none is left
-    tells nothing. The number and the points hang on the sums, lest sums be made to fit them.
-    """
-    modulus, points = _modulus_and_points(n, one + other)
-    powers = [_powers_of(point, modulus) for point in points]
-    for left in range(n):
-        row = _row_of(one, left, powers, modulus)
-        if _leaves_rest(row, _row_of(other, left, powers, modulus), modulus):
-            return True
-    return False
-
-
-def _modulus_and_points(n, pairs):
-    """Give a great number without small factors, and n points that have none in common with it."""
-    mixed = 1
-    for exponents, coefficient in pairs:
-        for number in exponents + (coefficient,):
-            mixed = (mixed * MIXED_BY + number) % MIXED_BELOW
-    modulus = SMALL_PRIMES * (mixed + 1) + 1
-    points = []
-    for _ in range(n):
-        mixed = (mixed * MIXED_BY + 1) % MIXED_BELOW
-        point = mixed
-        while gcd(point, modulus) != 1:
-            point += 1
-        points.append(point)
-    return modulus, points
-
-
-def _powers_of(point, modulus):
-    """Give the powers of the point, one for each exponent from the least on.
-
-    They begin with the power 0, for the same factor at all pairs makes no difference.
-    """
-    powers = [1]
-    for _ in range(2 * MOST_EXPONENT):
-        powers.append(powers[-1] * point % modulus)
-    return powers
-
-
-def _row_of(told, left, powers, modulus):
-    """Give the coefficients of the powers of the one name that is left, no noughts at the ends."""
-    row = [0] * (2 * MOST_EXPONENT + 1)
-    for exponents, coefficient in told:
-        many = coefficient % modulus
-        for name, power in enumerate(exponents):
-            if name != left:
-                many = many * powers[name][power + MOST_EXPONENT] % modulus
-        place = exponents[left] + MOST_EXPONENT
-        row[place] = (row[place] + many) % modulus
-    kept = [place for place, many in enumerate(row) if many != 0]
-    return row[kept[0]:kept[-1] + 1] if kept else []
-
-
-def _leaves_rest(row, other, modulus):
-    """Tell whether a row of coefficients surely isn't, modulo the number, the other times some row."""
-    if not other:
-        return len(row) > 0
-    if gcd(other[-1], modulus) != 1:
-        return False
-    inverse = _inverse(other[-1], modulus)
-    rest = list(row)
-    steps = [(at, many) for at, many in enumerate(other) if many != 0]
-    for low in range(len(row) - len(other), -1, -1):
-        factor = rest[low + len(other) - 1] * inverse % modulus
-        if factor != 0:
-            for at, many in steps:
-                rest[low + at] = (rest[low + at] - factor * many) % modulus
-    return any(rest)
-
-
-def _inverse(many, modulus):
-    """Give what, times the number, is 1 modulo the other, if they have no factor in common."""
-    low, high = many, modulus
-    found, behind = 1, 0
-    while low > 1:
-        fits = high // low
-        low, high = high - fits * low, low
-        found, behind = behind - fits * found, found
-    return found % modulus

@@ -258,11 +258,11 @@ class EachPartAlone(unittest.TestCase):
         self.check(701, 1500)
 
     def test_the_proof_alone(self):
-        with mock.patch("dartwebs.division._leaves_rest_at_points", lambda *_: False):
+        with mock.patch("dartwebs.division.leaves_rest_at_points", lambda *_: False):
             self.check(702, 3000)
 
     def test_the_proof_alone_for_long_quotients(self):
-        with mock.patch("dartwebs.division._leaves_rest_at_points", lambda *_: False):
+        with mock.patch("dartwebs.division.leaves_rest_at_points", lambda *_: False):
             tests = unittest.TestSuite()
             for name in ("test_one_name", "test_common_divisors_of_coefficients", "test_great_coefficients",
                          "test_factors_along_products_of_names", "test_far_beyond_what_can_be_written",
